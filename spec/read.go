@@ -51,18 +51,26 @@ func statementOf(word string) (found statement, is bool) {
 }
 
 // read tells a text's spec, or its first fault.
-func read(text string) (s api.Spec, f api.Fault) {
+func read(text string) (api.Spec, api.Fault) {
+	r := reader{scanner: scanner{text: text}, given: map[string]api.Sym{theError: {Kind: api.SError}}}
+	if f := caught(r.whole); f.Err != api.OK {
+		return api.Spec{}, f
+	}
+	return r.spec, api.Fault{}
+}
+
+// caught tells the fault that a walk throws, if it throws one.
+func caught(walk func()) (f api.Fault) {
 	defer func() {
 		if thrown := recover(); thrown != nil {
 			f = thrown.(api.Fault)
 		}
 	}()
-	r := reader{scanner: scanner{text: text}, given: map[string]api.Sym{theError: {Kind: api.SError}}}
-	r.whole()
-	return r.spec, api.Fault{}
+	walk()
+	return api.Fault{}
 }
 
-// fail throws a fault; read catches it.
+// fail throws a fault, for caught to tell.
 func fail(err api.Errno, at int, name string) {
 	panic(api.Fault{Err: err, At: at, Name: name})
 }
@@ -190,12 +198,18 @@ func (r *reader) give(name token, s api.Sym) {
 
 // checkName asks whether a token is a name.
 func checkName(t token) {
-	if _, is := statementOf(t.word); is || t.kind != someWord || t.word == theError {
+	if t.kind != someWord || reserved(t.word) {
 		wrong(t)
 	}
 	if len(t.word) > api.MaxName {
 		fail(api.ErrLong, t.at, t.word[:api.MaxName])
 	}
+}
+
+// reserved asks whether a word can't be a name.
+func reserved(word string) bool {
+	_, is := statementOf(word)
+	return is || word == theError
 }
 
 // resolve says of all words what they name, when all is known.

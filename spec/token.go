@@ -1,6 +1,10 @@
 package spec
 
-import "strings"
+import (
+	"strings"
+
+	"graft/api"
+)
 
 // The kinds of tokens beside the signs; a sign's kind is its byte.
 const (
@@ -31,12 +35,24 @@ func (s *scanner) next() token {
 	t.kind = kindOf(s.text[s.at])
 	s.at++
 	if t.kind == someWord {
-		for s.at < len(s.text) && (letter(s.text[s.at]) || digit(s.text[s.at])) {
-			s.at++
-		}
+		s.at = t.at + wordLength(s.text[t.at:])
 		t.word = strings.Clone(s.text[t.at:s.at]) // so that no answer keeps the text
 	}
 	return t
+}
+
+// wordLength tells how many bytes the word has with which a text begins; 0, if it begins with none.
+func wordLength(text string) int {
+	n := 0
+	for n < len(text) && (letter(text[n]) || n > 0 && digit(text[n])) {
+		n++
+	}
+	return n
+}
+
+// isName asks whether a text is one word that can be given to a rule or a nonterminal.
+func isName(text string) bool {
+	return text != "" && len(text) <= api.MaxName && wordLength(text) == len(text) && !reserved(text)
 }
 
 // kindOf tells what a byte begins.
