@@ -1,8 +1,6 @@
 package query
 
 import (
-	"slices"
-
 	"graft/api"
 	"graft/tree"
 )
@@ -11,6 +9,10 @@ import (
 type walk struct {
 	size  int
 	pages [][]spot // made when they are needed
+
+	// The way to a node whose path was told, or to one below it:
+	way  []int32 // the nodes that are gone down to
+	down []int   // which children they are
 }
 
 // spot is what is known of a node at its place.
@@ -18,6 +20,7 @@ type spot struct {
 	node      *tree.Node // nil, if nothing is known yet
 	at, to    int        // where it begins and ends
 	up, which int32      // the number of the node above, and which of its children this is
+	depth     int32      // how many nodes are above
 	skip      int32      // one more than the bytes of trivia of its first leaf, if it has leaves; 0, if they are not known yet
 }
 
@@ -26,12 +29,12 @@ const page = 1 << 9
 
 func newWalk(n *tree.Node) walk {
 	w := walk{size: n.Size(), pages: make([][]spot, (n.Size()+page-1)/page)}
-	*w.slot(0) = newSpot(n, 0, none, 0)
+	*w.slot(0) = newSpot(n, 0, none, 0, 0)
 	return w
 }
 
-func newSpot(n *tree.Node, at, up, which int) spot {
-	s := spot{node: n, at: at, to: at + n.Width(), up: int32(up), which: int32(which)}
+func newSpot(n *tree.Node, at, up, which, depth int) spot {
+	s := spot{node: n, at: at, to: at + n.Width(), up: int32(up), which: int32(which), depth: int32(depth)}
 	if l, is := n.Leaf(); is || n.Leafs() == 0 {
 		s.skip = int32(trivia(l)) + 1
 	}
@@ -80,8 +83,9 @@ func (w *walk) follow(i int) {
 
 // hang makes a child of a node known.
 func (w *walk) hang(i, at, up, which int) {
-	n, _ := w.slot(up).node.Kid(which)
-	*w.slot(i) = newSpot(n, at, up, which)
+	above := w.slot(up)
+	n, _ := above.node.Kid(which)
+	*w.slot(i) = newSpot(n, at, up, which, int(above.depth)+1)
 }
 
 // end tells the number behind all those of a node's tree.
@@ -127,12 +131,17 @@ func (w *walk) leafy(i int) int {
 	return kid
 }
 
-// path tells the way to a node from the top.
+// path tells the way to a node from the top. Paths are as long as trees are deep, and those that are told one behind the other are much alike: what is known of the way is not gone again.
 func (w *walk) path(i int) []int {
-	var path []int
-	for s := w.spot(i); s.up != none; s = w.spot(int(s.up)) {
-		path = append(path, int(s.which))
+	depth := int(w.spot(i).depth)
+	for len(w.way) < depth {
+		w.way, w.down = append(w.way, none), append(w.down, 0)
 	}
-	slices.Reverse(path)
-	return path
+	for d := depth - 1; d >= 0 && w.way[d] != int32(i); d-- {
+		s := w.spot(i)
+		w.way, w.down = w.way[:depth], w.down[:depth] // what was known below is below another node
+		w.way[d], w.down[d] = int32(i), int(s.which)
+		i = int(s.up)
+	}
+	return append([]int(nil), w.down[:depth]...)
 }
